@@ -1,0 +1,64 @@
+"""The names and arguments of the interface stand in the files under which they are listed."""
+
+import ast
+import importlib
+import pathlib
+import unittest
+
+PACKAGE = pathlib.Path(__file__).resolve().parent.parent / "widthwise"
+
+FUNCTIONS = {
+    "parts": {
+        "is_part": ["thing"], "part_of": ["top", "bottom"], "added": ["one", "other"],
+        "less": ["one", "other"], "product": ["one", "other"], "quotient": ["one", "other"],
+        "is_more": ["one", "other"], "lesser": ["one", "other"], "greater": ["one", "other"],
+        "part_text": ["part"], "read_part": ["text"],
+    },
+    "spans": {
+        "is_spans": ["thing"], "spans_of": ["pairs"], "united": ["one", "other"],
+        "common": ["one", "other"], "outside": ["one"], "has": ["one", "width"],
+    },
+}
+
+CLASSES = {
+    "errors": [
+        "WideError", "NoPart", "NoSpan", "NoBox", "NoText", "NoItem", "NoName", "NoWish",
+        "NoChange", "NoRow", "TooMany",
+    ],
+}
+
+
+def defined(name, kind):
+    """What a file of the package defines of a kind at module level, by name."""
+    tree = ast.parse((PACKAGE / f"{name}.py").read_text())
+    return {node.name: node for node in tree.body if isinstance(node, kind)}
+
+
+class InterfaceTest(unittest.TestCase):
+
+    def test_functions_with_their_arguments(self):
+        for file, functions in FUNCTIONS.items():
+            found = defined(file, ast.FunctionDef)
+            for name, arguments in functions.items():
+                told = found[name].args
+                self.assertEqual([one.arg for one in told.args], arguments, name)
+                self.assertFalse(told.posonlyargs or told.kwonlyargs or told.vararg or told.kwarg)
+                # The default of part_of's bottom is the only one so far.
+                self.assertEqual(len(told.defaults), 1 if name == "part_of" else 0, name)
+
+    def test_classes(self):
+        for file, classes in CLASSES.items():
+            found = defined(file, ast.ClassDef)
+            for name in classes:
+                self.assertIn(name, found)
+
+    def test_all_can_be_imported_by_the_files_names(self):
+        for table in (FUNCTIONS, CLASSES):
+            for file, names in table.items():
+                module = importlib.import_module(f"widthwise.{file}")
+                for name in names:
+                    self.assertTrue(callable(getattr(module, name)), name)
+
+
+if __name__ == "__main__":
+    unittest.main()

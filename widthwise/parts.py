@@ -1,0 +1,103 @@
+"""Parts: exact fractions, told as tuples (top, bottom) in lowest terms."""
+
+from math import gcd
+
+from widthwise.errors import NoPart
+
+
+def is_whole(thing):
+    """Whether a thing is a whole number: an int that is no truth; of anything."""
+    return isinstance(thing, int) and not isinstance(thing, bool)
+
+
+def is_part(thing):
+    """Whether a thing is a part; of anything."""
+    if not isinstance(thing, tuple) or len(thing) != 2:
+        return False
+    top, bottom = thing
+    if not is_whole(top) or not is_whole(bottom):
+        return False
+    return bottom > 0 and gcd(top, bottom) == 1
+
+
+def is_width(thing):
+    """Whether a thing is a part from 0 on; of anything."""
+    return is_part(thing) and thing[0] >= 0
+
+
+def part_of(top, bottom=1):
+    """The part that is top / bottom; NoPart of a bottom that is 0."""
+    if not is_whole(top) or not is_whole(bottom) or bottom == 0:
+        raise NoPart("a part has whole numbers, and no bottom of 0")
+    divisor = gcd(top, bottom)
+    # The sign is kept by the top alone, so the divisor takes that of the bottom.
+    if bottom < 0:
+        divisor = -divisor
+    return top // divisor, bottom // divisor
+
+
+def added(one, other):
+    """The one part and the other together."""
+    return part_of(one[0] * other[1] + other[0] * one[1], one[1] * other[1])
+
+
+def less(one, other):
+    """The one part less the other."""
+    return part_of(one[0] * other[1] - other[0] * one[1], one[1] * other[1])
+
+
+def product(one, other):
+    """The one part times the other."""
+    return part_of(one[0] * other[0], one[1] * other[1])
+
+
+def quotient(one, other):
+    """The one part by the other; NoPart by 0."""
+    # By 0 the bottom becomes 0, which part_of refuses.
+    return part_of(one[0] * other[1], one[1] * other[0])
+
+
+def is_more(one, other):
+    """Whether the one part is more than the other."""
+    return one[0] * other[1] > other[0] * one[1]
+
+
+def lesser(one, other):
+    """The one of two parts that is no more than the other."""
+    if is_more(one, other):
+        return other
+    return one
+
+
+def greater(one, other):
+    """The one of two parts that the other is no more than."""
+    if is_more(other, one):
+        return other
+    return one
+
+
+def part_text(part):
+    """A part as it is written."""
+    top, bottom = part
+    if bottom == 1:
+        return str(top)
+    return f"{top}/{bottom}"
+
+
+def read_part(text):
+    """The part that is written just so; NoPart of any other text."""
+    top_text, stroke, bottom_text = text.partition("/")
+    if not stroke:
+        bottom_text = "1"
+    if not _is_figures(top_text.removeprefix("-")) or not _is_figures(bottom_text):
+        raise NoPart("a part is written in figures")
+    part = (int(top_text), int(bottom_text))
+    # Of all the ways to write a part only the one that part_text tells is let by.
+    if not is_part(part) or part_text(part) != text:
+        raise NoPart("a part is not written so")
+    return part
+
+
+def _is_figures(text):
+    # Python takes other signs than 0 to 9 for figures, too, when it reads numbers.
+    return text.isascii() and text.isdigit()
