@@ -210,6 +210,31 @@ class TextTest(Case):
             with self.subTest(text=text):
                 self.refused(NoPart, read_part, text)
 
+    def test_long_texts_are_refused(self):
+        for many in [61, 640, 4299, 4300, 4301, 5000, 20000]:
+            noughts, ones = "0" * many, "1" * many
+            for text in [
+                noughts, "-" + noughts, noughts + "1", "-" + noughts + "1", noughts + "/3", "1/" + noughts,
+                "1/" + noughts + "3", "1/3" + noughts + "x", "x" + noughts, "-" + noughts + "1/2",
+                "2" + noughts + "/2", "2/2" + noughts, "-2" + noughts + "/4", "0/1" + noughts, "-0/1" + noughts,
+                "1" + noughts + "/1", "1" + noughts + "/0", "1" + noughts + "/1" + noughts, ones + "/" + ones,
+                "1" + noughts + " ", " 1" + noughts, "1" + noughts + "\n", "+1" + noughts, "--1" + noughts,
+                "1" + noughts + "/-3", "1" + noughts + "/3/3", "/" * many, "-" * many, " " * many, "x" * many,
+                "\u0661" * many, "1/" + "\uff11" * many,
+            ]:
+                self.refused(NoPart, read_part, text)
+
+    def test_long_texts_that_are_parts(self):
+        for many in [59, 60, 61, 119, 120, 121, 640, 4300, 4301, 5000]:
+            ten = 10 ** many
+            for thing, text in [
+                ((ten, 1), "1" + "0" * many), ((-ten, 1), "-1" + "0" * many),
+                ((ten, 3), "1" + "0" * many + "/3"), ((-3, ten), "-3/1" + "0" * many),
+                ((ten - 1, ten), "9" * many + "/1" + "0" * many), ((ten + 7, 1), "1" + "0" * (many - 1) + "7"),
+            ]:
+                self.assertTrue(read_part(text) == thing)
+                self.assertTrue(part_text(thing) == text)
+
     def test_all_short_texts(self):
         told = {part_text(part(Fraction(top, bottom))) for top in range(-210, 211) for bottom in range(1, 30)}
         texts = [""]

@@ -3,6 +3,7 @@
 from math import gcd
 
 from widthwise.errors import NoPart
+from widthwise.figures import figures_of, is_number, number_of
 
 
 def is_whole(thing):
@@ -79,9 +80,12 @@ def greater(one, other):
 def part_text(part):
     """A part as it is written."""
     top, bottom = part
+    text = figures_of(abs(top))
+    if top < 0:
+        text = "-" + text
     if bottom == 1:
-        return str(top)
-    return f"{top}/{bottom}"
+        return text
+    return f"{text}/{figures_of(bottom)}"
 
 
 def read_part(text):
@@ -89,15 +93,14 @@ def read_part(text):
     top_text, stroke, bottom_text = text.partition("/")
     if not stroke:
         bottom_text = "1"
-    if not _is_figures(top_text.removeprefix("-")) or not _is_figures(bottom_text):
-        raise NoPart("a part is written in figures")
-    part = (int(top_text), int(bottom_text))
+    figures = top_text.removeprefix("-")
+    if not is_number(figures) or not is_number(bottom_text):
+        raise NoPart("a part is written in figures, without noughts ahead")
+    top = number_of(figures)
+    if top_text != figures:
+        top = -top
+    part = (top, number_of(bottom_text))
     # Of all the ways to write a part only the one that part_text tells is let by.
     if not is_part(part) or part_text(part) != text:
         raise NoPart("a part is not written so")
     return part
-
-
-def _is_figures(text):
-    # Python takes other signs than 0 to 9 for figures, too, when it reads numbers.
-    return text.isascii() and text.isdigit()
