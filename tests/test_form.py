@@ -57,6 +57,17 @@ def bound_names(tree):
     return found
 
 
+def bound_on_top(tree):
+    """The names that a file defines at module level, those of its imports not among them."""
+    found = set()
+    for node in tree.body:
+        if isinstance(node, (ast.FunctionDef, ast.ClassDef)):
+            found.add(node.name)
+        elif isinstance(node, ast.Assign):
+            found.update([target.id for target in node.targets])
+    return found
+
+
 class FormTest(unittest.TestCase):
 
     def test_the_folder_has_plain_files_alone(self):
@@ -82,7 +93,7 @@ class FormTest(unittest.TestCase):
             self.assertEqual(node.level, 0, name)
             if node.module.split(".")[0] == "widthwise":
                 defining = ROOT / (node.module.replace(".", "/") + ".py")
-                bound = {one.name for one in ast.parse(defining.read_text()).body if hasattr(one, "name")}
+                bound = bound_on_top(ast.parse(defining.read_text()))
                 for one in node.names:
                     self.assertIn(one.name, bound, name)
             else:
@@ -97,6 +108,28 @@ class FormTest(unittest.TestCase):
             for node in ast.walk(tree):
                 if isinstance(node, ast.Name) and isinstance(node.ctx, ast.Load):
                     self.assertIn(node.id, bound | BUILTINS, name)
+
+    def test_no_name_of_a_class_or_an_import_is_bound_again(self):
+        for name, tree in trees():
+            taken = [node.name for node in tree.body if isinstance(node, ast.ClassDef)]
+            taken += [one.name for node in tree.body if isinstance(node, ast.ImportFrom) for one in node.names]
+            top = taken + sorted(bound_on_top(tree) - set(taken))
+            self.assertEqual(len(top), len(set(top)), name)
+            within = set()
+            for node in ast.walk(tree):
+                if isinstance(node, ast.arg):
+                    within.add(node.arg)
+                elif isinstance(node, ast.Name) and isinstance(node.ctx, ast.Store):
+                    within.add(node.id)
+            self.assertFalse(within & set(taken), name)
+
+    def test_no_name_is_a_method_and_an_attribute(self):
+        for name, node in nodes(ast.ClassDef):
+            methods = {one.name for one in node.body if isinstance(one, ast.FunctionDef)}
+            attributes = {one.attr for one in ast.walk(node)
+                          if isinstance(one, ast.Attribute) and isinstance(one.ctx, ast.Store)}
+            self.assertFalse(methods & attributes, (name, node.name))
+            self.assertEqual(len(methods), len([one for one in node.body if isinstance(one, ast.FunctionDef)]))
 
     def test_no_decorators_and_no_barred_statements(self):
         for name, node in nodes((ast.Global, ast.AsyncFunctionDef, ast.AsyncFor, ast.AsyncWith, ast.Div)):

@@ -18,6 +18,12 @@ FUNCTIONS = {
         "is_spans": ["thing"], "spans_of": ["pairs"], "united": ["one", "other"],
         "common": ["one", "other"], "outside": ["one"], "has": ["one", "width"],
     },
+    "boxes": {"box_of": ["tree"]},
+    "texts": {"written": ["box"], "read_box": ["text"]},
+    "sharing": {
+        "is_item": ["thing"], "width_at": ["item", "share"], "shared": ["items", "room"],
+        "is_shared": ["items", "room", "widths"],
+    },
 }
 
 CLASSES = {
@@ -25,6 +31,16 @@ CLASSES = {
         "WideError", "NoPart", "NoSpan", "NoBox", "NoText", "NoItem", "NoName", "NoWish",
         "NoChange", "NoRow", "TooMany",
     ],
+    "boxes": ["Box", "Plain", "Row", "Column"],
+}
+
+BOX_METHODS = {
+    "tree": [], "name": [], "sizes": [], "kids": [], "names": [], "found": ["name"], "gap": [], "lean": [],
+    "breaks": [], "tall": [],
+}
+
+METHODS = {
+    "boxes": {"Box": BOX_METHODS, "Plain": BOX_METHODS, "Row": BOX_METHODS, "Column": BOX_METHODS},
 }
 
 
@@ -51,6 +67,16 @@ class InterfaceTest(unittest.TestCase):
             found = defined(file, ast.ClassDef)
             for name in classes:
                 self.assertIn(name, found)
+
+    def test_methods_stand_in_the_bodies_of_their_classes(self):
+        for file, classes in METHODS.items():
+            found = defined(file, ast.ClassDef)
+            for name, methods in classes.items():
+                own = {node.name: node for node in found[name].body if isinstance(node, ast.FunctionDef)}
+                for method, arguments in methods.items():
+                    told = own[method].args
+                    self.assertEqual([one.arg for one in told.args], ["self"] + arguments, (name, method))
+                    self.assertFalse(told.posonlyargs or told.kwonlyargs or told.vararg or told.kwarg or told.defaults)
 
     def test_all_can_be_imported_by_the_files_names(self):
         for table in (FUNCTIONS, CLASSES):
