@@ -24,6 +24,16 @@ FUNCTIONS = {
         "is_item": ["thing"], "width_at": ["item", "share"], "shared": ["items", "room"],
         "is_shared": ["items", "room", "widths"],
     },
+    "lines": {
+        "broken": ["wishes", "gap", "width"], "goes_into": ["wishes", "gap", "width"],
+        "fewest": ["wishes", "gap", "width"],
+    },
+    "laying": {"laid": ["box", "width"], "lines_of": ["box", "width", "name"], "stands_out": ["box", "width"]},
+    "finding": {
+        "at_point": ["layout", "x", "y"], "innermost": ["layout", "x", "y"],
+        "crossing": ["layout", "x", "y", "wide", "tall"], "place_of": ["layout", "name"],
+        "beside": ["layout", "one", "other"],
+    },
 }
 
 CLASSES = {

@@ -7,6 +7,7 @@ from helpers import Case, fraction, knotted, odd_things, part
 from widthwise.boxes import box_of
 from widthwise.errors import NoBox, NoItem
 from widthwise.sharing import is_item, is_shared, shared, width_at
+from words import share_told, sum_told, width_told
 
 GREAT = 10 ** 39
 MANY = 10 ** 5000
@@ -29,43 +30,6 @@ NO_ITEMS = [
     (1001, 0, None, 1, 2), (10, 5, 1001, 1, 2), (10, 5, 20, 21, 2), (10, 5, 20, 1, 21), (MANY, 0, None, 1, 1),
     (10, 5, MANY, 1, 1), (10, 5, 20, MANY, 1), (10, -MANY, 20, 1, 1), ("box", "a", (10, 5, 20, 1, 2), 7), "10512",
 ]
-
-
-def width_told(item, share):
-    """How wide an item is with a share, a Fraction, by the words of point 32."""
-    wish, least, most, grow, shrink = item
-    if share >= 0:
-        width = wish + share * grow
-        return width if most is None else min(width, Fraction(most))
-    return max(wish + share * shrink, Fraction(least))
-
-
-def sum_told(items, share):
-    return sum([width_told(item, share) for item in items], Fraction(0))
-
-
-def share_told(items, room):
-    """The share by point 33, looked for from bend to bend: between two of them the widths' sum grows evenly."""
-    wishes = sum_told(items, Fraction(0))
-    sign = -1 if room < wishes else 1
-    bends = {Fraction(0)}
-    for wish, least, most, grow, shrink in items:
-        if sign == 1 and grow and most is not None:
-            bends.add(Fraction(most - wish, grow))
-        if sign == -1 and shrink:
-            bends.add(Fraction(least - wish, shrink))
-    bends = sorted(bends, key=abs)
-    for low, high in itertools.pairwise(bends):
-        at_low, at_high = sum_told(items, low), sum_told(items, high)
-        if min(at_low, at_high) <= room <= max(at_low, at_high):
-            if at_low == room:
-                return low
-            return low + (high - low) * (room - at_low) / (at_high - at_low)
-    last = bends[-1]
-    pace = sum_told(items, last + sign) - sum_told(items, last)
-    if pace == 0:
-        return last
-    return last + sign * (room - sum_told(items, last)) / pace
 
 
 def line_by_chance(chance):

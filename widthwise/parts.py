@@ -26,6 +26,12 @@ def is_width(thing):
     return is_part(thing) and thing[0] >= 0
 
 
+def look_at_width(thing):
+    """Refuses what is no part from 0 on with NoPart; of anything."""
+    if not is_width(thing):
+        raise NoPart("a width is a part from 0 on")
+
+
 def part_of(top, bottom=1):
     """The part that is top / bottom; NoPart of a bottom that is 0."""
     if not is_whole(top) or not is_whole(bottom) or bottom == 0:
