@@ -34,6 +34,11 @@ FUNCTIONS = {
         "crossing": ["layout", "x", "y", "wide", "tall"], "place_of": ["layout", "name"],
         "beside": ["layout", "one", "other"],
     },
+    "widths": {
+        "line_at": ["line", "width"], "share_pieces": ["items"], "all_laid": ["box"], "read_at": ["pieces", "width"],
+    },
+    "changes": {"changed": ["box", "change"]},
+    "desk": {"answers": ["text"]},
 }
 
 CLASSES = {
@@ -42,6 +47,9 @@ CLASSES = {
         "NoChange", "NoRow", "TooMany",
     ],
     "boxes": ["Box", "Plain", "Row", "Column"],
+    "wishes": ["Wish", "Wide", "InLines", "Within", "Same", "Both", "Either", "Not"],
+    "changes": ["Sheet"],
+    "desk": ["Desk"],
 }
 
 BOX_METHODS = {
@@ -49,8 +57,27 @@ BOX_METHODS = {
     "breaks": [], "tall": [],
 }
 
+WISH_METHODS = {"told": [], "holds": ["box", "width"], "widths": ["box"]}
+
 METHODS = {
     "boxes": {"Box": BOX_METHODS, "Plain": BOX_METHODS, "Row": BOX_METHODS, "Column": BOX_METHODS},
+    "wishes": {
+        "Wish": WISH_METHODS,
+        "Wide": dict(WISH_METHODS, __init__=["name", "least"]),
+        "InLines": dict(WISH_METHODS, __init__=["name", "most"]),
+        "Within": dict(WISH_METHODS, __init__=["name"]),
+        "Same": dict(WISH_METHODS, __init__=["one", "other"]),
+        "Both": dict(WISH_METHODS, __init__=["one", "other"]),
+        "Either": dict(WISH_METHODS, __init__=["one", "other"]),
+        "Not": dict(WISH_METHODS, __init__=["one"]),
+    },
+    "changes": {
+        "Sheet": {
+            "__init__": ["box", "width"], "box": [], "width": [], "change": ["change"], "widen": ["width"], "undo": [],
+            "redo": [], "laid": [], "layings": [],
+        },
+    },
+    "desk": {"Desk": {"__init__": [], "say": ["row"]}},
 }
 
 
@@ -69,7 +96,7 @@ class InterfaceTest(unittest.TestCase):
                 told = found[name].args
                 self.assertEqual([one.arg for one in told.args], arguments, name)
                 self.assertFalse(told.posonlyargs or told.kwonlyargs or told.vararg or told.kwarg)
-                # The default of part_of's bottom is the only one so far.
+                # The default of part_of's bottom is the only one.
                 self.assertEqual(len(told.defaults), 1 if name == "part_of" else 0, name)
 
     def test_classes(self):

@@ -123,7 +123,7 @@ class GoesIntoTest(Case):
         self.assertIs(self.untouched(goes_into, wishes, gap, part(width)), answer)
 
     def test_none(self):
-        for width in (0, 1, GREAT):
+        for width in (0, 1, GREAT, -1):
             self.told([], 0, width, True)
             self.told([], 1000, width, True)
 

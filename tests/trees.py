@@ -83,3 +83,61 @@ HAND = [
     ("row", "a", (0, 0, None, 0, 0), 0, "left", True, (
         ("box", "b", (0, 0, None, 0, 0), 0), ("box", "c", (10, 0, None, 1, 1), 5))),
 ]
+
+# Told at all widths in 400 pieces, just as many as are told; swept in more stretches than that.
+FOUR_HUNDRED = """\
+row top 0 0 - 1 1 5 right breaks
+  box b35 33 11 35 2 4 0
+  row b33 90 20 - 1 2 3 left breaks
+    box b34 58 46 75 3 1 4
+    row b0 60 10 - 1 1 0 amid breaks
+      box b1 65 15 66 2 4 5
+      box b2 67 37 74 2 3 1
+      box b3 41 33 52 3 1 5
+      box b4 39 2 72 2 1 3
+      box b5 58 14 69 4 1 1
+      box b6 12 2 53 4 4 7
+      box b7 73 38 84 2 4 3
+      box b8 73 69 99 1 2 6
+      box b9 17 17 24 4 1 8
+      box b10 58 0 90 4 4 1
+    row b11 100 10 - 1 1 3 amid breaks
+      box b12 63 47 64 4 2 0
+      box b13 11 3 31 4 4 7
+      box b14 86 14 90 3 2 7
+      box b15 51 36 57 3 2 7
+      box b16 39 38 56 1 1 3
+      box b17 87 39 96 4 1 7
+      box b18 59 8 64 4 1 2
+      box b19 55 35 83 1 1 2
+      box b20 36 21 55 4 1 3
+      box b21 79 60 87 1 4 2
+  row b22 140 10 - 1 1 0 amid breaks
+    box b23 79 49 83 3 1 8
+    box b24 45 32 75 2 3 8
+    box b26 37 25 67 4 2 5
+    box b27 65 33 71 3 3 8
+    box b28 61 54 72 1 2 2
+    box b29 14 5 58 1 3 7
+    box b30 87 48 89 3 3 5
+    box b31 42 23 56 1 4 6
+    box b32 46 5 79 1 3 6
+  box b36 21 21 60 1 1 0
+"""
+
+
+def nested_by_chance(number, many, within, kids):
+    """Trees of rows that break within rows that break, so that many widths are their ends."""
+    chance = random.Random(number)
+
+    def made(depth, names):
+        name = next(names)
+        if depth == within:
+            return ("box", name, sizes_by_chance(chance), chance.randrange(9))
+        trees = [made(depth + 1, names)]
+        trees += [("box", next(names), sizes_by_chance(chance), chance.randrange(9)) for _ in range(kids - 1)]
+        chance.shuffle(trees)
+        lean = chance.choice(["left", "amid", "right"])
+        return ("row", name, sizes_by_chance(chance), chance.randrange(4), lean, True, tuple(trees))
+
+    return [made(1, iter([f"b{at}" for at in range(40)])) for _ in range(many)]

@@ -4,6 +4,10 @@
 class WideError(ValueError):
     """Any refusal of the program."""
 
+    def __init__(self, why=""):
+        ValueError.__init__(self, why)
+        self.kind = self.__class__.__name__
+
 
 class NoPart(WideError):
     """Something is no part, or no part that is asked for there."""
