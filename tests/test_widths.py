@@ -18,13 +18,14 @@ GREAT = 10 ** 39
 HALF = Fraction(1, 2)
 
 
-def line(pace, ahead):
-    return part(pace), part(ahead)
+def line(begin, pace):
+    """The line that begins with a number at width 0, and grows at a pace from there."""
+    return part(begin), part(pace)
 
 
 def worth(told, width):
     """What a line tells at a width, a Fraction."""
-    return fraction(told[0]) * width + fraction(told[1])
+    return fraction(told[0]) + fraction(told[1]) * width
 
 
 def asked(lows):
@@ -57,56 +58,62 @@ class WidthsCase(Case):
         self.assertEqual(len(told), 2)
         self.plain_part(told[0])
         self.plain_part(told[1])
-        self.assertGreaterEqual(told[0][0], 0)
+        # What grows with the width is the second one, and never falls.
+        self.assertGreaterEqual(told[1][0], 0)
 
 
 class LineAtTest(Case):
 
     def test_lines(self):
-        told = [((0, 0), 5, 0), ((1, 0), 5, 5), ((0, 3), 5, 3), ((2, -3), 5, 7), ((HALF, Fraction(1, 3)), 5, Fraction(17, 6)),
-                ((1, -5), 5, 0), ((3, 1), 0, 1), ((-1, 1), 3, -2), ((Fraction(1, 3), 0), GREAT, Fraction(GREAT, 3))]
-        for (pace, ahead), width, worth_told in told:
-            found = self.untouched(line_at, line(pace, ahead), part(width))
+        told = [((0, 0), 5, 0), ((0, 1), 5, 5), ((3, 0), 5, 3), ((-3, 2), 5, 7), ((Fraction(1, 3), HALF), 5, Fraction(17, 6)),
+                ((-5, 1), 5, 0), ((1, 3), 0, 1), ((1, -1), 3, -2), ((0, Fraction(1, 3)), GREAT, Fraction(GREAT, 3))]
+        for (begin, pace), width, worth_told in told:
+            found = self.untouched(line_at, line(begin, pace), part(width))
             self.plain_part(found)
             self.assertEqual(found, part(worth_told))
+
+    def test_the_first_one_is_told_at_width_0_and_the_second_one_grows(self):
+        self.assertEqual(line_at(((3, 1), (1, 2)), (4, 1)), (5, 1))
+        self.assertEqual(line_at(((7, 1), (0, 1)), (9, 1)), (7, 1))
+        self.assertEqual(line_at(((0, 1), (1, 1)), (9, 1)), (9, 1))
 
 
 class SharePiecesTest(WidthsCase):
 
     def told(self, items, *pieces):
-        expected = [(part(low), [line(pace, ahead) for pace, ahead in lines]) for low, lines in pieces]
+        expected = [(part(low), [line(begin, pace) for begin, pace in lines]) for low, lines in pieces]
         self.assertEqual(self.untouched(share_pieces, items), expected)
 
     def test_no_items(self):
         self.told([], (0, []))
 
     def test_one_item(self):
-        self.told([(10, 5, 20, 1, 1)], (0, [(0, 5)]), (5, [(1, 0)]), (20, [(0, 20)]))
-        self.told([(10, 5, None, 1, 1)], (0, [(0, 5)]), (5, [(1, 0)]))
-        self.told([(10, 0, None, 1, 1)], (0, [(1, 0)]))
-        self.told([(10, 5, 20, 0, 1)], (0, [(0, 5)]), (5, [(1, 0)]), (10, [(0, 10)]))
-        self.told([(10, 5, 20, 1, 0)], (0, [(0, 10)]), (10, [(1, 0)]), (20, [(0, 20)]))
-        self.told([(10, 5, 20, 0, 0)], (0, [(0, 10)]))
-        self.told([(10, 10, 10, 3, 3)], (0, [(0, 10)]))
+        self.told([(10, 5, 20, 1, 1)], (0, [(5, 0)]), (5, [(0, 1)]), (20, [(20, 0)]))
+        self.told([(10, 5, None, 1, 1)], (0, [(5, 0)]), (5, [(0, 1)]))
+        self.told([(10, 0, None, 1, 1)], (0, [(0, 1)]))
+        self.told([(10, 5, 20, 0, 1)], (0, [(5, 0)]), (5, [(0, 1)]), (10, [(10, 0)]))
+        self.told([(10, 5, 20, 1, 0)], (0, [(10, 0)]), (10, [(0, 1)]), (20, [(20, 0)]))
+        self.told([(10, 5, 20, 0, 0)], (0, [(10, 0)]))
+        self.told([(10, 10, 10, 3, 3)], (0, [(10, 0)]))
         self.told([(0, 0, 0, 3, 3)], (0, [(0, 0)]))
-        self.told([(0, 0, None, 3, 3)], (0, [(1, 0)]))
+        self.told([(0, 0, None, 3, 3)], (0, [(0, 1)]))
 
     def test_where_the_wishes_are_met_nothing_ends_if_all_goes_on_evenly(self):
         # Two that take as they give.
-        self.told([(10, 0, None, 1, 1), (10, 0, None, 1, 1)], (0, [(HALF, 0), (HALF, 0)]))
-        self.told([(10, 5, None, 1, 1), (10, 5, None, 1, 1)], (0, [(0, 5), (0, 5)]), (10, [(HALF, 0), (HALF, 0)]))
+        self.told([(10, 0, None, 1, 1), (10, 0, None, 1, 1)], (0, [(0, HALF), (0, HALF)]))
+        self.told([(10, 5, None, 1, 1), (10, 5, None, 1, 1)], (0, [(5, 0), (5, 0)]), (10, [(0, HALF), (0, HALF)]))
 
     def test_shares_change_where_the_wishes_are_met(self):
         third = Fraction(1, 3)
         self.told([(10, 0, None, 2, 1), (10, 0, None, 1, 1)],
-                  (0, [(HALF, 0), (HALF, 0)]), (20, [(2 * third, -10 * third), (third, 10 * third)]))
+                  (0, [(0, HALF), (0, HALF)]), (20, [(-10 * third, 2 * third), (10 * third, third)]))
 
     def test_an_item_at_its_most_leaves_room_to_others(self):
-        self.told([(0, 0, 5, 1, 0), (0, 0, None, 1, 0)], (0, [(HALF, 0), (HALF, 0)]), (10, [(0, 5), (1, -5)]))
+        self.told([(0, 0, 5, 1, 0), (0, 0, None, 1, 0)], (0, [(0, HALF), (0, HALF)]), (10, [(5, 0), (-5, 1)]))
 
     def test_an_item_at_its_least_leaves_others_to_give(self):
         self.told([(10, 6, 10, 0, 1), (10, 0, 10, 0, 1)],
-                  (0, [(0, 6), (0, 0)]), (6, [(0, 6), (1, -6)]), (12, [(HALF, 0), (HALF, 0)]), (20, [(0, 10), (0, 10)]))
+                  (0, [(6, 0), (0, 0)]), (6, [(6, 0), (-6, 1)]), (12, [(0, HALF), (0, HALF)]), (20, [(10, 0), (10, 0)]))
 
     def test_at_each_room_what_is_shared(self):
         for items in LINES[::6]:
@@ -152,51 +159,51 @@ class AllLaidTest(WidthsCase):
         self.assertEqual(all_laid(box_of(tree)), expected)
 
     def test_a_plain(self):
-        self.told(fixed("a", 10, 7), (0, [("a", (0, 0), 0, (1, 0), 7)]))
+        self.told(fixed("a", 10, 7), (0, [("a", (0, 0), 0, (0, 1), 7)]))
 
     def test_without_kids(self):
         for tree in (row("a", gap=9), row("a", gap=9, breaks=True), column("a", gap=9)):
-            self.told(tree, (0, [("a", (0, 0), 0, (1, 0), 0)]))
+            self.told(tree, (0, [("a", (0, 0), 0, (0, 1), 0)]))
 
     def test_a_row(self):
         tree = row("a", plain("b", (10, 5, 20, 1, 1), 3), fixed("c", 6, 2), gap=4, lean="amid")
-        whole = ("a", (0, 0), 0, (1, 0), 3)
-        self.told(tree, (0, [whole, ("b", (0, 0), 0, (0, 5), 3), ("c", (0, 9), 0, (0, 6), 2)]),
-                  (15, [whole, ("b", (0, 0), 0, (1, -10), 3), ("c", (1, -6), 0, (0, 6), 2)]),
-                  (30, [whole, ("b", (HALF, -15), 0, (0, 20), 3), ("c", (HALF, 9), 0, (0, 6), 2)]))
+        whole = ("a", (0, 0), 0, (0, 1), 3)
+        self.told(tree, (0, [whole, ("b", (0, 0), 0, (5, 0), 3), ("c", (9, 0), 0, (6, 0), 2)]),
+                  (15, [whole, ("b", (0, 0), 0, (-10, 1), 3), ("c", (-6, 1), 0, (6, 0), 2)]),
+                  (30, [whole, ("b", (-15, HALF), 0, (20, 0), 3), ("c", (9, HALF), 0, (6, 0), 2)]))
 
     def test_a_row_whose_kids_do_not_grow(self):
         for lean, ahead in [("left", 0), ("amid", HALF), ("right", 1)]:
-            first = [("a", (0, 0), 0, (1, 0), 1), ("b", (0, 0), 0, (0, 10), 1)]
-            second = [("a", (0, 0), 0, (1, 0), 1), ("b", (ahead, -10 * ahead), 0, (0, 10), 1)]
+            first = [("a", (0, 0), 0, (0, 1), 1), ("b", (0, 0), 0, (10, 0), 1)]
+            second = [("a", (0, 0), 0, (0, 1), 1), ("b", (-10 * ahead, ahead), 0, (10, 0), 1)]
             pieces = [(0, first)] if lean == "left" else [(0, first), (10, second)]
             self.told(row("a", fixed("b", 10), lean=lean), *pieces)
 
     def test_a_row_that_breaks(self):
         tree = row("a", fixed("b", 10, 3), fixed("c", 20, 5), fixed("d", 30, 2), gap=4, breaks=True)
-        b = ("b", (0, 0), 0, (0, 10), 3)
-        self.told(tree, (0, [("a", (0, 0), 0, (1, 0), 18), b, ("c", (0, 0), 7, (0, 20), 5), ("d", (0, 0), 16, (0, 30), 2)]),
-                  (34, [("a", (0, 0), 0, (1, 0), 11), b, ("c", (0, 14), 0, (0, 20), 5), ("d", (0, 0), 9, (0, 30), 2)]),
-                  (68, [("a", (0, 0), 0, (1, 0), 5), b, ("c", (0, 14), 0, (0, 20), 5), ("d", (0, 38), 0, (0, 30), 2)]))
+        b = ("b", (0, 0), 0, (10, 0), 3)
+        self.told(tree, (0, [("a", (0, 0), 0, (0, 1), 18), b, ("c", (0, 0), 7, (20, 0), 5), ("d", (0, 0), 16, (30, 0), 2)]),
+                  (34, [("a", (0, 0), 0, (0, 1), 11), b, ("c", (14, 0), 0, (20, 0), 5), ("d", (0, 0), 9, (30, 0), 2)]),
+                  (68, [("a", (0, 0), 0, (0, 1), 5), b, ("c", (14, 0), 0, (20, 0), 5), ("d", (38, 0), 0, (30, 0), 2)]))
 
     def test_a_column(self):
         tree = column("a", plain("b", (20, 8, 30, 9, 9), 2), plain("c", (0, 0, None, 0, 0), 3), gap=1, lean="right")
-        whole = ("a", (0, 0), 0, (1, 0), 6)
-        c = ("c", (0, 0), 3, (1, 0), 3)
-        self.told(tree, (0, [whole, ("b", (0, 0), 0, (0, 8), 2), c]), (8, [whole, ("b", (0, 0), 0, (1, 0), 2), c]),
-                  (30, [whole, ("b", (1, -30), 0, (0, 30), 2), c]))
+        whole = ("a", (0, 0), 0, (0, 1), 6)
+        c = ("c", (0, 0), 3, (0, 1), 3)
+        self.told(tree, (0, [whole, ("b", (0, 0), 0, (8, 0), 2), c]), (8, [whole, ("b", (0, 0), 0, (0, 1), 2), c]),
+                  (30, [whole, ("b", (-30, 1), 0, (30, 0), 2), c]))
 
     def test_the_ends_of_a_box_that_grows_at_another_pace_than_the_whole(self):
         inner = row("b", fixed("c", 4, 1), fixed("d", 6, 1), breaks=True, sizes=(0, 0, None, 1, 0))
         tree = row("a", inner, plain("e", (0, 0, None, 2, 0), 1))
         third = Fraction(1, 3)
-        whole = ("a", (0, 0), 0, (1, 0))
+        whole = ("a", (0, 0), 0, (0, 1))
         self.told(
             tree,
-            (0, [whole + (2,), ("b", (0, 0), 0, (third, 0), 2), ("c", (0, 0), 0, (0, 4), 1), ("d", (0, 0), 1, (0, 6), 1),
-                 ("e", (third, 0), 0, (2 * third, 0), 1)]),
-            (30, [whole + (1,), ("b", (0, 0), 0, (third, 0), 1), ("c", (0, 0), 0, (0, 4), 1), ("d", (0, 4), 0, (0, 6), 1),
-                  ("e", (third, 0), 0, (2 * third, 0), 1)]))
+            (0, [whole + (2,), ("b", (0, 0), 0, (0, third), 2), ("c", (0, 0), 0, (4, 0), 1), ("d", (0, 0), 1, (6, 0), 1),
+                 ("e", (0, third), 0, (0, 2 * third), 1)]),
+            (30, [whole + (1,), ("b", (0, 0), 0, (0, third), 1), ("c", (0, 0), 0, (4, 0), 1), ("d", (4, 0), 0, (6, 0), 1),
+                  ("e", (0, third), 0, (0, 2 * third), 1)]))
 
     def test_a_box_that_gets_less_wide_from_one_piece_to_the_next_comes_to_its_ends_again(self):
         inner = row("b", fixed("c", 4, 1), fixed("d", 6, 1), breaks=True, sizes=(5, 0, None, 1, 1))
@@ -272,9 +279,9 @@ class AllLaidTest(WidthsCase):
 
 class ReadAtTest(WidthsCase):
 
-    PIECES = [((0, 1), [("a", ((0, 1), (0, 1)), (0, 1), ((1, 1), (0, 1)), (5, 1))]),
-              ((5, 2), [("a", ((1, 2), (1, 3)), (2, 1), ((2, 1), (-1, 1)), (7, 1))]),
-              ((9, 1), [("a", ((0, 1), (3, 1)), (4, 1), ((0, 1), (8, 1)), (9, 1))])]
+    PIECES = [((0, 1), [("a", ((0, 1), (0, 1)), (0, 1), ((0, 1), (1, 1)), (5, 1))]),
+              ((5, 2), [("a", ((1, 3), (1, 2)), (2, 1), ((-1, 1), (2, 1)), (7, 1))]),
+              ((9, 1), [("a", ((3, 1), (0, 1)), (4, 1), ((8, 1), (0, 1)), (9, 1))])]
 
     def told(self, width, *numbers):
         expected = [("a",) + tuple(part(number) for number in numbers)]

@@ -15,8 +15,8 @@ NOTHING = (0, 1)
 
 
 def line_at(line, width):
-    """What a line tells at a width."""
-    return added(product(line[0], width), line[1])
+    """What a line (p, q) tells at a width: p, and q times the width."""
+    return added(line[0], product(line[1], width))
 
 
 def share_pieces(items):
@@ -85,7 +85,7 @@ def inner_of(low, high):
 def line_through(one, worth, other, other_worth):
     """The line that tells these two worths at these two widths."""
     pace = quotient(less(other_worth, worth), less(other, one))
-    return pace, less(worth, product(pace, one))
+    return less(worth, product(pace, one)), pace
 
 
 def _pieces(stretches):
@@ -114,10 +114,10 @@ def _next_end(box, width):
     ends = [own]
     # Up to the own end all kids' widths are lines, so an end of a kid is reached where its line comes to it.
     for one, other in zip(_kids_with_widths(box, width), _kids_with_widths(box, inner)):
-        pace, ahead = line_through(width, one[1], inner, other[1])
+        begin, pace = line_through(width, one[1], inner, other[1])
         end = _next_end(one[0], one[1]) if pace != NOTHING else None
         if end is not None:
-            ends.append(quotient(less(end, ahead), pace))
+            ends.append(quotient(less(end, begin), pace))
     return _earliest(ends)
 
 

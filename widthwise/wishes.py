@@ -254,9 +254,10 @@ def _begin(line, low):
     """The first width from low on at which a line that does not fall is from 0 on, or None."""
     if not is_more(NOTHING, line_at(line, low)):
         return low
-    if line[0] == NOTHING:
+    begin, pace = line
+    if pace == NOTHING:
         return None
-    return quotient(less(NOTHING, line[1]), line[0])
+    return quotient(less(NOTHING, begin), pace)
 
 
 # Wishes may be made of wishes many times over, so they are gone through in loops: no depth is too much for Python.
