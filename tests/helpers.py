@@ -1,6 +1,7 @@
 """What several tests need: odd things, and checks of refusals and of what was handed in."""
 
 import copy
+import sys
 import unittest
 from fractions import Fraction
 
@@ -51,6 +52,23 @@ def fraction(part):
 def part(number):
     number = Fraction(number)
     return (number.numerator, number.denominator)
+
+
+def calls(action, *told):
+    """How many calls of functions an action makes: what it takes, told without a clock."""
+    many = [0]
+
+    def count(_, event, __):
+        if event == "call":
+            many[0] += 1
+
+    before = sys.getprofile()
+    sys.setprofile(count)
+    try:
+        action(*told)
+    finally:
+        sys.setprofile(before)
+    return many[0]
 
 
 class Case(unittest.TestCase):

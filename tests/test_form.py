@@ -131,6 +131,12 @@ class FormTest(unittest.TestCase):
             self.assertFalse(methods & attributes, (name, node.name))
             self.assertEqual(len(methods), len([one for one in node.body if isinstance(one, ast.FunctionDef)]))
 
+    def test_no_attribute_has_the_name_of_any_method(self):
+        methods = {one.name for _, node in nodes(ast.ClassDef) for one in node.body if isinstance(one, ast.FunctionDef)}
+        for name, node in nodes(ast.Attribute):
+            if isinstance(node.ctx, ast.Store):
+                self.assertNotIn(node.attr, methods, name)
+
     def test_no_decorators_and_no_barred_statements(self):
         for name, node in nodes((ast.Global, ast.AsyncFunctionDef, ast.AsyncFor, ast.AsyncWith, ast.Div)):
             self.fail((name, node))

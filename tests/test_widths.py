@@ -2,10 +2,10 @@ import random
 import unittest
 from fractions import Fraction
 
-from helpers import Case, fraction, knotted, odd_things, part
+from helpers import Case, calls, fraction, knotted, odd_things, part
 from test_laying import NO_WIDTHS, column, fixed, plain, row
 from test_sharing import LINES, NO_ITEMS
-from trees import FOUR_HUNDRED, HAND, bends, nested_by_chance, trees_by_chance
+from trees import BREAKING_ROWS, FOUR_HUNDRED, HAND, bends, nested_by_chance, trees_by_chance
 from widthwise.boxes import box_of
 from widthwise.errors import NoItem, NoPart, TooMany
 from widthwise.laying import laid
@@ -128,6 +128,11 @@ class SharePiecesTest(WidthsCase):
                 self.assertEqual([worth(told, room) for told in pieces[at][1]], [width_told(item, share) for item in items])
                 self.assertEqual([line_at(told, part(room)) for told in pieces[at][1]], shared(items, part(room))[1])
 
+    def test_how_many_calls_are_made(self):
+        for kids in ROWS_OF_TWELVE:
+            items = [kid[2] for kid in kids]
+            self.assertLess(calls(share_pieces, items), 3000)
+
     def test_refused(self):
         good = (10, 5, 20, 1, 2)
         for thing in NO_ITEMS + odd_things() + [knotted()]:
@@ -146,6 +151,8 @@ class SharePiecesTest(WidthsCase):
         self.assertEqual(share_pieces(items), expected)
 
 
+BREAKING = read_box(BREAKING_ROWS).tree()
+ROWS_OF_TWELVE = [kid[-1] for kid in BREAKING[-1]]
 TREES = HAND + trees_by_chance(71, 110, boxes=14, kids=5) + trees_by_chance(72, 12) + nested_by_chance(73, 12, 3, 4)
 LARGE = nested_by_chance(74, 4, 4, 5) + nested_by_chance(75, 2, 5, 6)
 
@@ -266,6 +273,32 @@ class AllLaidTest(WidthsCase):
             kids = [fixed(f"p{depth}{at}", min(5 ** (depth + 1), 1000) - at, at) for at in range(5)]
             tree = row(f"r{depth}", *kids[:2], tree, *kids[2:], breaks=True, sizes=(1, 0, None, 20, 20), gap=1)
         self.refused(TooMany, all_laid, box_of(tree))
+
+    def test_rows_of_twelve_that_break(self):
+        chance = random.Random(78)
+        for lean, tree in zip(["left", "amid", "right"], BREAKING[-1]):
+            tree = tree[:4] + (lean,) + tree[5:]
+            pieces = all_laid(box_of(tree))
+            self.formed(pieces)
+            for width, at in chance.sample(asked([low for low, _ in pieces]), 150):
+                rows = [(name, worth(x, width), fraction(y), worth(wide, width), fraction(tall))
+                        for name, x, y, wide, tall in pieces[at][1]]
+                self.assertEqual(rows, laid_told(tree, width), (tree, width))
+
+    def test_a_column_of_rows_that_break(self):
+        self.refused(TooMany, all_laid, box_of(BREAKING))
+        # The lows of two of its rows are those of either, for each row is as wide as the whole.
+        two = BREAKING[:-1] + (BREAKING[-1][:2],)
+        lows = set()
+        for kid in two[-1]:
+            lows.update([low for low, _ in all_laid(box_of(kid))])
+        self.assertEqual([fraction(low) for low, _ in all_laid(box_of(two))], sorted([fraction(low) for low in lows]))
+
+    def test_how_many_calls_are_made(self):
+        # An end is to cost what goes on otherwise there, and not a layout of the whole: that took 12 million calls.
+        self.assertLess(calls(self.refused, TooMany, all_laid, box_of(BREAKING)), 200000)
+        self.assertLess(calls(all_laid, box_of(BREAKING[-1][0])), 100000)
+        self.assertLess(calls(all_laid, read_box(FOUR_HUNDRED)), 300000)
 
     def test_the_lists_told_are_the_askers_own(self):
         box = box_of(TREES[-1])

@@ -3,9 +3,9 @@ import random
 import unittest
 from fractions import Fraction
 
-from helpers import Case, fraction, knotted, odd_things, part
+from helpers import Case, calls, fraction, knotted, odd_things, part
 from test_laying import NO_WIDTHS, column, fixed, plain, row
-from trees import FOUR_HUNDRED, HAND, bends, nested_by_chance, trees_by_chance
+from trees import BREAKING_ROWS, FOUR_HUNDRED, HAND, bends, nested_by_chance, trees_by_chance
 from widthwise.boxes import box_of
 from widthwise.errors import NoName, NoPart, NoWish, TooMany
 from widthwise.spans import has, is_spans
@@ -274,6 +274,12 @@ class WidthsTest(Case):
                         self.assertIs(wish.holds(box, part(near)), holds_told(told, tree, near))
                 self.assertEqual(wish.told(), told)
             self.assertEqual(box.tree(), tree)
+
+    def test_how_many_calls_are_made(self):
+        box = read_box(BREAKING_ROWS).kids()[0]
+        for wish in [Wide("a3", 270), InLines("r9", 3), Within("a3"), Same("a3", "a4")]:
+            self.assertLess(calls(wish.widths, box), 100000)
+            self.assertLess(calls(self.refused, TooMany, wish.widths, read_box(BREAKING_ROWS)), 200000)
 
     def test_the_list_told_is_the_askers_own(self):
         box = box_of(TREE)

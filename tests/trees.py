@@ -125,6 +125,50 @@ row top 0 0 - 1 1 5 right breaks
   box b36 21 21 60 1 1 0
 """
 
+# A column of rows that break, each of as many boxes as may be: 438 pieces, so more than are told.
+BREAKING_ROWS = """\
+column all 100 0 - 1 1 3 left
+  row r9 100 0 - 1 1 4 amid breaks
+    box a5 195 0 198 3 1 10
+    box a12 98 98 99 2 1 50
+    box a6 267 0 270 1 0 47
+    box a0 79 39 85 1 2 27
+    box a7 409 0 416 3 0 42
+    box a1 286 143 292 2 1 7
+    box a8 315 157 317 1 1 31
+    box a2 253 126 256 1 1 2
+    box a9 128 0 132 3 2 28
+    box a3 269 269 270 3 1 33
+    box a10 111 55 120 1 2 31
+    box a4 420 0 421 2 0 45
+  row r8 100 0 - 1 1 4 amid breaks
+    box b5 27 0 32 3 0 18
+    box b12 413 413 415 1 1 33
+    box b6 267 267 273 3 2 42
+    box b0 289 289 292 2 2 10
+    box b7 416 0 422 3 2 39
+    box b1 286 0 290 1 1 47
+    box b8 385 192 389 3 2 48
+    box b2 225 0 233 1 2 36
+    box b9 373 186 382 3 1 6
+    box b3 164 0 173 1 1 30
+    box b10 377 188 379 2 2 13
+    box b4 434 434 439 1 0 3
+  row r7 100 0 - 1 1 4 amid breaks
+    box c5 153 0 161 2 1 50
+    box c12 294 294 302 2 2 49
+    box c6 351 351 352 2 0 4
+    box c0 338 169 339 2 1 25
+    box c7 430 215 438 3 0 41
+    box c1 335 335 337 1 2 12
+    box c8 427 0 434 2 0 42
+    box c2 22 0 26 2 1 35
+    box c9 44 22 53 1 0 13
+    box c3 80 40 84 1 1 22
+    box c10 349 174 353 1 1 15
+    box c4 231 0 236 3 1 38
+"""
+
 
 def nested_by_chance(number, many, within, kids):
     """Trees of rows that break within rows that break, so that many widths are their ends."""

@@ -33,24 +33,14 @@ def laid_from(memory, box, width):
 
 def lines_of(box, width, name):
     """The list of the lines of the box of that name, each the list of its kids' names; NoPart, NoName."""
-    return lines_in(box, laid(box, width), name)
-
-
-def lines_in(box, layout, name):
-    """The lines of the box of that name in a layout of the whole; NoName."""
-    width = place_of(layout, name)[3]
-    return [[kid.name() for kid in line] for line in kid_lines(box.found(name), width)]
+    wide = place_of(laid(box, width), name)[3]
+    return [[kid.name() for kid in line] for line in kid_lines(box.found(name), wide)]
 
 
 def stands_out(box, width):
     """The list of the names of the boxes that stand out, in order; NoPart."""
-    pairs = beyond_in(box, laid(box, width))
-    return [name for name, far in pairs if is_more(far, NOTHING)]
-
-
-def beyond_in(box, layout):
-    """Pairs of the name of each box within another, in order, and how far its right side is beyond that one's."""
-    return _beyond(box, {name: added(x, wide) for name, x, _, wide, _ in layout})
+    rights = {name: added(x, wide) for name, x, _, wide, _ in laid(box, width)}
+    return _standing_out(box, rights)
 
 
 def kid_lines(box, width):
@@ -129,9 +119,10 @@ def _moved(rows, right, down):
     return [(name, added(x, right), added(y, down), wide, tall) for name, x, y, wide, tall in rows]
 
 
-def _beyond(box, rights):
+def _standing_out(box, rights):
     found = []
     for kid in box.kids():
-        found.append((kid.name(), less(rights[kid.name()], rights[box.name()])))
-        found.extend(_beyond(kid, rights))
+        if is_more(rights[kid.name()], rights[box.name()]):
+            found.append(kid.name())
+        found.extend(_standing_out(kid, rights))
     return found

@@ -36,10 +36,15 @@ def part_of(top, bottom=1):
     """The part that is top / bottom; NoPart of a bottom that is 0."""
     if not is_whole(top) or not is_whole(bottom) or bottom == 0:
         raise NoPart("a part has whole numbers, and no bottom of 0")
-    divisor = gcd(top, bottom)
-    # The sign is kept by the top alone, so the divisor takes that of the bottom.
+    # The sign is kept by the top alone.
     if bottom < 0:
-        divisor = -divisor
+        return reduced(-top, -bottom)
+    return reduced(top, bottom)
+
+
+def reduced(top, bottom):
+    """The part that is top / bottom, of whole numbers, the bottom from 1 on."""
+    divisor = gcd(top, bottom)
     return top // divisor, bottom // divisor
 
 

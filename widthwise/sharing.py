@@ -14,7 +14,7 @@ def is_item(thing):
 
 def width_at(item, share):
     """How wide an item is with a share; NoItem."""
-    _look_at([item])
+    look_at_items([item])
     wish, least, most, grow, shrink = item
     if is_more(NOTHING, share):
         return greater(added(part_of(wish), product(share, part_of(shrink))), part_of(least))
@@ -26,7 +26,7 @@ def width_at(item, share):
 
 def shared(items, room):
     """The tuple (share, widths, spare, over) of a line of items with such a room; NoItem."""
-    _look_at(items)
+    look_at_items(items)
     share = _share_of(items, room)
     widths = [width_at(item, share) for item in items]
     left = room
@@ -40,7 +40,7 @@ def is_shared(items, room, widths):
     return shared(items, room)[1] == widths
 
 
-def _look_at(items):
+def look_at_items(items):
     if not isinstance(items, list) or not all([is_item(item) for item in items]):
         raise NoItem("not an item, or not a list of items")
 

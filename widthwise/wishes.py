@@ -3,16 +3,16 @@
 from widthwise.boxes import is_name
 from widthwise.errors import NoWish
 from widthwise.finding import place_of
-from widthwise.laying import beyond_in, laid, lines_in
-from widthwise.parts import is_more, is_whole, less, look_at_width, part_of, quotient
-from widthwise.spans import common, outside, spans_of, united
-from widthwise.widths import inner_of, line_at, line_through, rows_at, swept
+from widthwise.laying import kid_lines, laid
+from widthwise.parts import added, is_more, is_whole, less, look_at_width, part_of, quotient
+from widthwise.spans import common, has, outside, spans_of, united
+from widthwise.widths import line_at, swept
 
 NOTHING = (0, 1)
 
 
-# A wish that is made of no wishes tells an amount, from 0 on just where it holds. From one end to the next of what
-# swept tells the amount is a line, and never falls; so where the wish comes to hold there, it holds up to the end.
+# A wish that is made of no wishes tells an amount, from 0 on just where it holds: a line for each of the stretches of
+# widths that swept tells. There it never falls; so where the wish comes to hold, it holds up to the stretch's end.
 # One that is made of wishes joins their sets. Each class tells all by methods of its own, as the interface lists them.
 class Wish:
     """A wish; only those that stand under it are made."""
@@ -57,9 +57,9 @@ class Wide(Wish):
         """The set of all widths at which it holds for the box; NoName, TooMany."""
         return _widths(self, box)
 
-    def _amount(self, _, layout):
+    def _amounts(self, _, stretches):
         _, name, least = self._told
-        return less(place_of(layout, name)[3], part_of(least))
+        return [_line_less(place_of(rows, name)[3], _level(part_of(least))) for _, _, rows in stretches]
 
 
 class InLines(Wish):
@@ -81,9 +81,12 @@ class InLines(Wish):
         """The set of all widths at which it holds for the box; NoName, TooMany."""
         return _widths(self, box)
 
-    def _amount(self, box, layout):
+    def _amounts(self, box, stretches):
         _, name, most = self._told
-        return part_of(most - len(lines_in(box, layout, name)))
+        named = box.found(name)
+        # No line takes other boxes within a stretch, so it has them all where it begins.
+        widths = [line_at(place_of(rows, name)[3], low) for low, _, rows in stretches]
+        return [_level(part_of(most - len(kid_lines(named, width)))) for width in widths]
 
 
 class Within(Wish):
@@ -105,10 +108,11 @@ class Within(Wish):
         """The set of all widths at which it holds for the box; NoName, TooMany."""
         return _widths(self, box)
 
-    def _amount(self, box, layout):
-        # The whole is not among the pairs: there is no box that it could stand out of.
-        far = dict(beyond_in(box, layout)).get(self._told[1], NOTHING)
-        return less(NOTHING, far)
+    def _amounts(self, box, stretches):
+        name = self._told[1]
+        # There is no box that the whole could stand out of, so it is held against itself.
+        around = _around(box, name) or name
+        return [_line_less(_right(rows, around), _right(rows, name)) for _, _, rows in stretches]
 
 
 class Same(Wish):
@@ -130,11 +134,10 @@ class Same(Wish):
         """The set of all widths at which it holds for the box; NoName, TooMany."""
         return _widths(self, box)
 
-    def _amount(self, _, layout):
+    def _amounts(self, _, stretches):
         _, one, other = self._told
-        if place_of(layout, one)[2] == place_of(layout, other)[2]:
-            return NOTHING
-        return part_of(-1)
+        alike = [place_of(rows, one)[2] == place_of(rows, other)[2] for _, _, rows in stretches]
+        return [_level(NOTHING if same else part_of(-1)) for same in alike]
 
 
 class Both(Wish):
@@ -215,35 +218,50 @@ def _is_count(thing):
     return is_whole(thing) and thing >= 0
 
 
+def _level(worth):
+    """The line that tells the same at all widths."""
+    return worth, NOTHING
+
+
+def _line_less(one, other):
+    return less(one[0], other[0]), less(one[1], other[1])
+
+
+def _right(rows, name):
+    """The line of the right side of a box."""
+    _, x, _, wide, _ = place_of(rows, name)
+    return added(x[0], wide[0]), added(x[1], wide[1])
+
+
+def _around(box, name):
+    """The name of the box around the one of that name, or None of the whole."""
+    for kid in box.kids():
+        found = box.name() if kid.name() == name else _around(kid, name)
+        if found is not None:
+            return found
+    return None
+
+
 def _holds(wish, box, width):
     look_at_width(width)
     parts = _all_in(wish)
     _look_at_names(parts, box)
-    layout = laid(box, width)
-    # At the one width a wish has all widths or none, so that a joined one asks no rule of its own here.
-    return _settled(parts, lambda one: _all_or_none(one._amount(box, layout))) != []
-
-
-def _all_or_none(amount):
-    if is_more(NOTHING, amount):
-        return []
-    return outside([])
+    # As if all stayed as it is from the width on: at the width itself that tells what holds.
+    rows = [(name, _level(x), y, _level(wide), tall) for name, x, y, wide, tall in laid(box, width)]
+    return has(_settled(parts, box, [(width, None, rows)]), width)
 
 
 def _widths(wish, box):
     parts = _all_in(wish)
     _look_at_names(parts, box)
-    stretches = swept(box)
-    return _settled(parts, lambda one: _where(one, box, stretches))
+    return _settled(parts, box, swept(box))
 
 
 def _where(wish, box, stretches):
-    """The set of all widths at which a wish that is made of no wishes holds."""
+    """The set of all widths of the stretches at which a wish that is made of no wishes holds."""
     pairs = []
-    for low, high, rows in stretches:
-        inner = inner_of(low, high)
-        amount = wish._amount(box, rows_at(rows, low))
-        begin = _begin(line_through(low, amount, inner, wish._amount(box, rows_at(rows, inner))), low)
+    for (low, high, _), amount in zip(stretches, wish._amounts(box, stretches)):
+        begin = _begin(amount, low)
         if begin is not None:
             pairs.append((begin, high))
     # Where a line would come to 0 beyond the end, the pair has no width.
@@ -280,13 +298,13 @@ def _look_at_names(wishes, box):
             box.found(name)
 
 
-def _settled(wishes, set_of):
-    """The set of the last of the wishes of _all_in, from the sets of those that are made of no wishes."""
+def _settled(wishes, box, stretches):
+    """The set of the last of the wishes of _all_in, of widths of the stretches."""
     waiting = []
     for wish in wishes:
         many = len(wish._wishes)
         if many == 0:
-            waiting.append(set_of(wish))
+            waiting.append(_where(wish, box, stretches))
         else:
             made = waiting[-many:]
             del waiting[-many:]
